@@ -1,0 +1,1 @@
+"""Joinpast: which pasts can be joined to which futures."""

@@ -1,0 +1,202 @@
+"""The form of the code: rules of the language that can be read off the files."""
+
+import ast
+import builtins
+import pathlib
+import unittest
+
+PACKAGE = pathlib.Path(__file__).resolve().parent.parent / "joinpast"
+FILES = sorted(PACKAGE.glob("*.py"))
+LIBRARY = {"math": {"gcd", "lcm", "isqrt", "comb", "perm", "factorial"}}
+BUILTINS = set(
+    "len range enumerate zip min max sum abs sorted reversed int str bool list tuple dict set isinstance "
+    "ord repr any all divmod iter next ValueError NotImplemented property classmethod".split()
+)
+METHODS = set(
+    "append clear copy count endswith extend find get index insert isalnum isalpha isdigit islower isspace "
+    "isupper items join keys ljust lower lstrip partition pop remove replace reverse rfind rjust rpartition "
+    "rsplit rstrip setdefault split splitlines startswith strip update upper values zfill bit_length "
+    "add discard".split()
+)
+DUNDERS = set(
+    "__init__ __eq__ __len__ __iter__ __call__ __contains__ __add__ __sub__ __mul__ __rmul__ __and__ __neg__ "
+    "__enter__ __exit__ __repr__ __str__".split()
+)
+BARRED_NODES = (
+    ast.AsyncFor, ast.AsyncFunctionDef, ast.AsyncWith, ast.Await, ast.Div, ast.GeneratorExp, ast.Global,
+    ast.Lambda, ast.MatMult, ast.NamedExpr, ast.Nonlocal, ast.Try, ast.YieldFrom,
+)
+BARRED_NAMES = {"register", "mro", "elements", "open", "input", "law", "version_info"}
+INTERFACE = {
+    "ratios": "fraction plus times over",
+    "polynomials": "polynomial normal_polynomial span poly_plus poly_times poly_divided divides",
+    "divisors": "common common_parts least_multiple",
+    "rowsets": "is_row_name row_set",
+    "sums": "ordered sum_plus sum_times moved_sum part_of rows_of reach normal_rule",
+    "books": "Book",
+    "families": "Family",
+    "courses": "value course",
+    "keeping": "keeps breaks first_break",
+    "splices": "spliced",
+    "selfgoing": "obeys least_polynomial",
+    "shortest": "shortest reaches",
+    "turning": "turned_book renamed_book",
+    "windows": "window_rules can_stand window_break window_freedom",
+    "completing": "completed",
+    "following": "derivation is_derivation counterexample",
+}
+CLASS_METHODS = {
+    "Book": "__init__ __and__ __add__ __contains__ __eq__ __len__ __iter__ free_count free zero",
+    "Family": "__init__ entry window __call__ __add__ __sub__ __neg__ __mul__ __rmul__ __eq__ moved turned only "
+              "beside renamed scaled applied zero pulse is_finite extent",
+}
+
+
+def tree_of(path):
+    return ast.parse(path.read_text(encoding="ascii"))
+
+
+def functions_of(tree):
+    return [node for node in ast.walk(tree) if isinstance(node, ast.FunctionDef)]
+
+
+def bound_names(tree):
+    """Return all names that parameters, assignments and loops bind in functions."""
+    found = set()
+    for function in functions_of(tree):
+        for node in ast.walk(function):
+            if isinstance(node, ast.arg):
+                found.add(node.arg)
+            if isinstance(node, ast.Name) and isinstance(node.ctx, ast.Store):
+                found.add(node.id)
+    return found
+
+
+def imported_names(tree):
+    return {name.name for node in tree.body if isinstance(node, ast.ImportFrom) for name in node.names}
+
+
+class LanguageTest(unittest.TestCase):
+    def test_the_package_holds_plain_files_only(self):
+        for path in PACKAGE.iterdir():
+            if path.name != "__pycache__":
+                self.assertRegex(path.name, r"^[a-z_][a-z0-9_]*\.py$")
+
+    def test_sizes_and_characters(self):
+        for path in FILES:
+            text = path.read_text(encoding="ascii")
+            lines = text.split("\n")
+            self.assertLessEqual(len(lines), 399, path)
+            for line in lines:
+                self.assertLessEqual(len(line), 120, path)
+            self.assertNotIn("\t", text)
+            self.assertTrue(set(text) <= set("\n" + "".join(map(chr, range(32, 127)))), path)
+            for function in functions_of(tree_of(path)):
+                self.assertLessEqual(function.end_lineno - function.lineno + 1, 40, function.name)
+
+    def test_imports_name_the_defining_file_and_form_no_circle(self):
+        imports = {}
+        for path in FILES:
+            imports[path.stem] = []
+            for node in ast.walk(tree_of(path)):
+                self.assertNotIsInstance(node, ast.Import)
+                if not isinstance(node, ast.ImportFrom):
+                    continue
+                if node.module in LIBRARY:
+                    self.assertTrue({name.name for name in node.names} <= LIBRARY[node.module])
+                    continue
+                self.assertTrue(node.module.startswith("joinpast."), node.module)
+                module = node.module.split(".")[1]
+                imports[path.stem].append(module)
+                defined = self.defined_in(tree_of(PACKAGE / (module + ".py")))
+                for name in node.names:
+                    self.assertIsNone(name.asname)
+                    self.assertIn(name.name, defined, path)
+        done = set()
+        while imports:
+            ready = [name for name in imports if set(imports[name]) <= done]
+            self.assertTrue(ready, imports)
+            for name in ready:
+                done.add(name)
+                del imports[name]
+
+    def defined_in(self, tree):
+        found = set()
+        for node in tree.body:
+            if isinstance(node, (ast.FunctionDef, ast.ClassDef)):
+                found.add(node.name)
+            if isinstance(node, ast.Assign):
+                found.add(node.targets[0].id)
+        return found
+
+    def test_every_import_is_used(self):
+        for path in FILES:
+            tree = tree_of(path)
+            used = {node.id for node in ast.walk(tree) if isinstance(node, ast.Name)}
+            self.assertTrue(imported_names(tree) <= used, (path, imported_names(tree) - used))
+
+    def test_no_local_name_hides_an_import_a_class_or_a_builtin(self):
+        for path in FILES:
+            tree = tree_of(path)
+            classes = {node.name for node in tree.body if isinstance(node, ast.ClassDef)}
+            bound = bound_names(tree) | self.defined_in(tree)
+            self.assertFalse(bound_names(tree) & (imported_names(tree) | classes), path)
+            self.assertFalse({name for name in bound if hasattr(builtins, name)}, path)
+            self.assertFalse(bound & BARRED_NAMES, path)
+
+    def test_no_local_name_is_called_like_a_function_beside_it(self):
+        for path in FILES:
+            tree = tree_of(path)
+            beside = {node.name for node in tree.body if isinstance(node, ast.FunctionDef)}
+            self.assertFalse(bound_names(tree) & beside, path)
+
+    def test_barred_statements_and_expressions(self):
+        for path in FILES:
+            for node in ast.walk(tree_of(path)):
+                self.assertNotIsInstance(node, BARRED_NODES, path)
+                if isinstance(node, ast.Constant):
+                    self.assertNotIsInstance(node.value, (float, complex, bytes))
+                if isinstance(node, ast.AugAssign):
+                    self.assertIsInstance(node.value, ast.Constant, path)
+                if isinstance(node, ast.Compare) and any(isinstance(op, (ast.Is, ast.IsNot)) for op in node.ops):
+                    self.assertIsInstance(node.comparators[0], ast.Constant, path)
+
+    def test_builtins_and_methods(self):
+        own = set()
+        for path in FILES:
+            own |= {function.name for function in functions_of(tree_of(path))}
+        for path in FILES:
+            tree = tree_of(path)
+            known = bound_names(tree) | self.defined_in(tree) | imported_names(tree)
+            for node in ast.walk(tree):
+                if isinstance(node, ast.Name) and node.id not in known:
+                    self.assertIn(node.id, BUILTINS, path)
+                if isinstance(node, ast.Call) and isinstance(node.func, ast.Attribute):
+                    self.assertIn(node.func.attr, METHODS | own, path)
+            for function in functions_of(tree):
+                if function.name.startswith("__"):
+                    self.assertIn(function.name, DUNDERS)
+                for decorator in function.decorator_list:
+                    self.assertIn(decorator.id, ("classmethod", "property"))
+
+    def test_stars_stand_before_names_only(self):
+        for path in FILES:
+            for node in ast.walk(tree_of(path)):
+                if isinstance(node, ast.Call):
+                    for argument in node.args:
+                        if isinstance(argument, ast.Starred):
+                            self.assertIsInstance(argument.value, ast.Name, path)
+
+    def test_the_interface_is_defined_in_its_files(self):
+        for module, names in INTERFACE.items():
+            tree = tree_of(PACKAGE / (module + ".py"))
+            defined = {node.name for node in tree.body if isinstance(node, (ast.FunctionDef, ast.ClassDef))}
+            self.assertTrue(set(names.split()) <= defined, module)
+            for node in tree.body:
+                if isinstance(node, ast.ClassDef):
+                    methods = {item.name for item in node.body if isinstance(item, ast.FunctionDef)}
+                    self.assertTrue(set(CLASS_METHODS[node.name].split()) <= methods, node.name)
+
+
+if __name__ == "__main__":
+    unittest.main()

@@ -2,7 +2,7 @@
 
 from joinpast.errors import BadName
 from joinpast.families import Family
-from joinpast.rowsets import is_row_name, require_rows
+from joinpast.rowsets import is_row_name
 from joinpast.sums import ordered, part_of, rows_of, shift_bounds
 from joinpast.tails import slid
 
@@ -18,7 +18,6 @@ def course(family, terms, *, name="sum"):
         raise BadName(name)
     plain = ordered(terms)
     rows = rows_of(plain)
-    require_rows(rows, family.rows)
     if not plain:
         return Family.zero([name])
     low, high = shift_bounds(plain)

@@ -132,7 +132,6 @@ class Family:
         return Family(self.rows, first, entries, before=ends[0], after=ends[1])
 
     def __sub__(self, other):
-        require_same_rows(self.rows, other.rows)
         return self + other.scaled(-1)
 
     def __neg__(self):

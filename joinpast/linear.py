@@ -22,13 +22,8 @@ def lighter(line):
 
 
 def eliminated(line, other, column):
-    """Return a multiple of the line minus one of the other, 0 in the column.
-
-    The line itself is multiplied by a number that is greater than 0.
-    """
+    """Return a multiple of the line minus one of the other, 0 in the column."""
     shared = gcd(line[column], other[column])
-    if other[column] < 0:
-        shared = -shared
     keep = other[column] // shared
     take = line[column] // shared
     found = {at: keep * line[at] for at in line}

@@ -18,8 +18,10 @@ def cleaned(pairs):
 
 
 def product_of(p, q):
-    """Return the product of two polynomials."""
-    return remaining(0, (), tuple([(shift, -factor) for shift, factor in p]), q)
+    """Return the product of two polynomials, whose pairs may be in any order."""
+    return cleaned([
+        (shift + by, factor * coefficient) for by, factor in p for shift, coefficient in q
+    ])
 
 
 def remaining(scale, p, factor, q):
@@ -59,8 +61,9 @@ def normal(p):
 def divided(p, q, low):
     """Return m, f, r with m * p = f * q + r, where q is not zero.
 
-    The shifts of r are at least `low` and less than `low` plus the span of q,
-    and m is the least positive number for which this is possible.
+    The shifts of r are at least `low` and less than `low` plus the span of q.
+    m is the least positive number for which this is possible: it only grows by
+    what the next coefficient of f lacks, so m and f never have a common divisor.
     """
     if not p:
         return (1, (), ())
@@ -85,13 +88,4 @@ def divided(p, q, low):
         for shift, coefficient in q:
             moved = shift + at - end
             rest[moved] = rest.get(moved, 0) - held // shared * coefficient
-    return lowest_terms(scale, factor, rest)
-
-
-def lowest_terms(scale, factor, rest):
-    """Return the triple, divided by what its first two items have in common."""
-    quotient = cleaned(list(factor.items()))
-    shared = gcd(scale, content(quotient))
-    quotient = tuple([(shift, times // shared) for shift, times in quotient])
-    left = [(shift, rest[shift] // shared) for shift in sorted(rest) if rest[shift] != 0]
-    return (scale // shared, quotient, tuple(left))
+    return (scale, cleaned(list(factor.items())), cleaned(list(rest.items())))

@@ -29,7 +29,7 @@ def poly_plus(p, q):
 
 def poly_times(p, q):
     """Return the product of two polynomials."""
-    return product_of(cleaned(p), cleaned(q))
+    return product_of(p, q)
 
 
 def poly_divided(p, q):

@@ -45,8 +45,7 @@ def require_same_rows(one, two):
 def renamed_rows(rows, old, new):
     """Return the rows, each at its spot, in which `old` is called `new`."""
     require_rows([old], rows)
-    if not is_row_name(new):
-        raise BadName(new)
-    if new != old and new in rows:
-        raise RowTwice(new)
-    return [new if name == old else name for name in rows]
+    named = [new if name == old else name for name in rows]
+    # All other names are good and different, so errors can only be about `new`.
+    row_set(named)
+    return named

@@ -103,12 +103,12 @@ def edge_of(vector, limit, weights, at_end):
 
 
 def gathered(items, factors, at_end):
-    """Return the vectors times the factors, moved to the end of the longest.
+    """Return the vectors times the factors, moved so that all of them end at 0.
 
     If `at_end` is False, they are not moved: all of them begin at 0.
     """
     parts = [
-        (length - items[-1][0] if at_end else 0, factor, vector)
+        (length if at_end else 0, factor, vector)
         for (length, _, vector), factor in zip(items, factors)
         if factor != 0
     ]

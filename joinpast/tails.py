@@ -21,8 +21,7 @@ def plain_window(sequences):
 def prolonged(entries, p, count):
     """Return the entries and `count` more, in which p applied gives zeros.
 
-    p is a normal polynomial, and there are at least as many entries as its
-    span.
+    There are at least as many entries as the span of p.
     """
     out = list(entries)
     last, leading = p[-1]
@@ -49,9 +48,7 @@ def between(entries, ends, low, high):
     out = prolonged(entries, after, high - len(entries))
     if low >= 0:
         return tuple(out[low:high])
-    last = before[-1][0]
-    back = [(last + shift, coefficient) for shift, coefficient in mirrored(before)]
-    out = prolonged(out[::-1], back, -low)[::-1]
+    out = prolonged(out[::-1], mirrored(before), -low)[::-1]
     return tuple(out[:high - low])
 
 

@@ -27,6 +27,15 @@ class DivisorsTest(unittest.TestCase):
         self.assertEqual(least_multiple([(-4, 6)], [(3, -9)]), ((0, 1),))
         self.assertEqual(least_multiple([(5, 2), (6, -2)], [(0, 3)]), ((0, -1), (1, 1)))
 
+    def test_pairs_in_any_order(self):
+        p, q = [(3, 1), (1, -1), (2, 5), (2, -5)], [(5, 2), (4, -1), (4, 3), (6, 0)]
+        self.assertEqual(common(p, q), ((0, 1), (1, 1)))
+        self.assertEqual(common(q, p), ((0, 1), (1, 1)))
+        self.assertEqual(least_multiple(p, q), ((0, -1), (2, 1)))
+        self.assertEqual(least_multiple(q, p), ((0, -1), (2, 1)))
+        m, f, h = common_parts(p, q)
+        self.assertEqual(((0, m), (1, m)), poly_plus(product(f, p), product(h, q)))
+
     def test_a_long_division_stays_exact(self):
         p = [(at, at * at + 1) for at in range(12)]
         q = [(at, 3 * at - 7) for at in range(11)]

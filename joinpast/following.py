@@ -12,6 +12,8 @@ def derivation(book, terms):
     """Return a derivation of the sum from the given rules, or None."""
     plain = ordered(terms)
     require_rows(rows_of(plain), book.rows)
+    if plain not in book:
+        return None
     return derived(book.rows, book.given, plain)
 
 

@@ -65,8 +65,8 @@ def shared_rules(rows, one, two):
 def derived(rows, rules, terms):
     """Return (m, factors) with m * terms = the factors applied to the rules.
 
-    Return None if the sum does not follow. Each vector carries, behind its
-    columns for the rows, the factors by which it came from the given rules.
+    The sum follows from the rules. Each vector carries, behind its columns for
+    the rows, the factors by which it came from the given rules.
     """
     width = len(rows)
     marks = [
@@ -78,8 +78,6 @@ def derived(rows, rules, terms):
     rest = vector_of(rows, terms) + marks[len(rules)]
     for column, step in steps:
         rest = freed(rest, column, step)
-    if first_filled(rest, width) is not None:
-        return None
     scale = rest[-1][0][1]
     factors = [
         tuple([(shift, -coefficient) for shift, coefficient in factor])

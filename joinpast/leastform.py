@@ -69,18 +69,36 @@ def derived(rows, rules, terms):
     the rows, the factors by which it came from the given rules.
     """
     width = len(rows)
+    needed = needed_rules(rows, rules)
     marks = [
-        tuple([ONE if at == index else () for at in range(len(rules) + 1)])
-        for index in range(len(rules) + 1)
+        tuple([ONE if at == index else () for at in range(len(needed) + 1)])
+        for index in range(len(needed) + 1)
     ]
-    vectors = [vector_of(rows, rule) + mark for rule, mark in zip(rules, marks)]
+    vectors = [vector_of(rows, rules[at]) + mark for at, mark in zip(needed, marks)]
     steps, _ = echelon(vectors, width)
-    rest = vector_of(rows, terms) + marks[len(rules)]
+    rest = vector_of(rows, terms) + marks[len(needed)]
     for column, step in steps:
         rest = freed(rest, column, step)
-    scale = rest[-1][0][1]
-    factors = [
-        tuple([(shift, -coefficient) for shift, coefficient in factor])
-        for factor in rest[width:-1]
-    ]
-    return (scale, tuple(factors))
+    factors = [() for _ in rules]
+    for at, factor in zip(needed, rest[width:-1]):
+        factors[at] = tuple([(shift, -coefficient) for shift, coefficient in factor])
+    return (rest[-1][0][1], tuple(factors))
+
+
+def needed_rules(rows, rules):
+    """Return the indexes of rules from which all of the rules follow.
+
+    To carry along factors of needless rules would lead to huge numbers. Short
+    rules are taken before long ones.
+    """
+    lengths = sorted([(reach(rules[at]), at) for at in range(len(rules)) if rules[at]])
+    needed = []
+    steps = []
+    for _, at in lengths:
+        rest = vector_of(rows, rules[at])
+        for column, step in steps:
+            rest = freed(rest, column, step)
+        if first_filled(rest, len(rows)) is not None:
+            needed.append(at)
+            steps, _ = echelon([vector_of(rows, rules[kept]) for kept in needed], len(rows))
+    return needed

@@ -6,7 +6,9 @@ from joinpast.errors import UnknownRow
 from joinpast.following import counterexample, derivation, is_derivation
 from joinpast.keeping import keeps
 from joinpast.polynomials import polynomial
+from joinpast.shortest import shortest
 from joinpast.sums import ordered, sum_plus, sum_times
+from joinpast.windows import window_rules
 
 PUMP = Book(["level", "pump"], [[("level", 1, 1), ("level", 0, -1), ("pump", 0, -1)]])
 
@@ -52,6 +54,19 @@ class FollowingTest(unittest.TestCase):
         self.assert_answers(book, rule)
         self.assert_answers(book, sum_times([(-4, 5), (1, 1)], rule))
         self.assert_answers(book, [("a", 0, 1)])
+
+    def test_many_needless_rules(self):
+        rows = list("abcdef")
+        rules = [
+            [(row, (5 * at + 2 * by) % 7 - 3, (3 * at * at + 4 * by) % 19 - 9) for by, row in enumerate(rows)]
+            for at in range(4)
+        ]
+        book = Book(rows, rules)
+        wide = Book(rows, window_rules(book, 20))
+        self.assertGreater(len(wide.given), 40)
+        self.assertEqual(wide, book)
+        for rule in book.rules + shortest(book):
+            self.assert_answers(wide, rule)
 
     def test_a_sum_that_follows_only_when_multiplied(self):
         book = Book(["a"], [[("a", 0, 2)]])

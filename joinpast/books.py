@@ -1,6 +1,6 @@
 """Books of rules."""
 
-from joinpast.leastform import follows, least_rules, shared_rules
+from joinpast.leastform import follows, least_rules, shared_rules, short_rules
 from joinpast.rowsets import require_rows, require_same_rows, row_set
 from joinpast.sums import ordered, rows_of
 
@@ -33,11 +33,13 @@ class Book:
 
     def __and__(self, other):
         rows = sorted(set(self.rows + other.rows))
-        return least_book(rows, self.rules + other.rules)
+        return least_book(rows, short_rules(self.rows, self.rules) + short_rules(other.rows, other.rules))
 
     def __add__(self, other):
         require_same_rows(self.rows, other.rows)
-        return least_book(self.rows, shared_rules(self.rows, self.rules, other.rules))
+        one = short_rules(self.rows, self.rules)
+        two = short_rules(other.rows, other.rules)
+        return least_book(self.rows, shared_rules(self.rows, one, two))
 
     def __contains__(self, terms):
         plain = ordered(terms)

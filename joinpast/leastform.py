@@ -1,7 +1,8 @@
-"""The least form of rules, and what follows from them."""
+"""The least form of rules, shortest rules, and what follows from them."""
 
 from joinpast.echelon import echelon, hermite, lowered
 from joinpast.plainpolys import ONE
+from joinpast.shortening import shortened
 from joinpast.sums import normal_rule, part_of, reach
 from joinpast.vectors import first_filled
 
@@ -28,6 +29,14 @@ def least_rules(rows, rules):
     return tuple([
         normal_rule(sum_of(rows, vector)) for vector in hermite(vectors, len(rows))
     ])
+
+
+def short_rules(rows, least):
+    """Return a shortest tuple of rules for rules in least form."""
+    vectors = shortened([vector_of(rows, rule) for rule in least], len(rows))
+    rules = [normal_rule(sum_of(rows, vector)) for vector in vectors]
+    lengths = sorted([(reach(rule), rule) for rule in rules])
+    return tuple([rule for _, rule in lengths])
 
 
 def follows(rows, least, terms):

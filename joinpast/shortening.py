@@ -52,7 +52,7 @@ def first_weights(vectors, width):
 def eased(weights):
     """Return the weights with the greatest one less by 1, unless it is 0."""
     greatest = max(weights)
-    chosen = weights.index(greatest)
+    chosen = min([at for at in range(len(weights)) if weights[at] == greatest])
     return weights[:chosen] + [max(0, greatest - 1)] + weights[chosen + 1:]
 
 

@@ -8,7 +8,8 @@ from joinpast.books import Book
 from joinpast.errors import BadName, NoRows, RowsDiffer, RowTwice, UnknownRow
 from joinpast.families import Family
 from joinpast.keeping import keeps
-from joinpast.sums import moved_sum, normal_rule, ordered, part_of, sum_plus, sum_times
+from joinpast.shortest import shortest
+from joinpast.sums import moved_sum, normal_rule, ordered, part_of, reach, sum_plus, sum_times
 
 PUMP = [("level", 1, 1), ("level", 0, -1), ("pump", 0, -1)]
 
@@ -241,6 +242,67 @@ class BookOperatorsTest(unittest.TestCase):
             self.assertIsInstance(raised(make, []), NoRows)
             self.assertIsInstance(raised(make, ["a", "a", ""]), BadName)
             self.assertIsInstance(raised(make, ["a", "a"]), RowTwice)
+
+
+class ShorterOnTheWayTest(unittest.TestCase):
+    """`&` and `+` where the rules of the books are longer than need be."""
+
+    def assert_least(self, book, rules):
+        self.assertTrue(is_least_form(book.rules), rules)
+        self.assertEqual(book.given, book.rules)
+        for rule in rules:
+            self.assertIn(rule, book)
+        for length in (1, 3, 5, 8):
+            self.assertEqual(followers(book.rules, length), followers(rules, length), rules)
+
+    def test_and_of_rules_with_unlike_reaches(self):
+        rows = ["a", "b", "c"]
+        one = Book(rows, [[("a", 0, 1), ("b", 3, 1), ("c", 0, 2)], [("b", 0, 1), ("c", 5, -1)]])
+        two = Book(rows, [[("a", 4, 3), ("b", 0, 1)], [("c", 0, 1), ("c", 1, -2)]])
+        self.assertNotEqual(shortest(one), one.rules)
+        self.assert_least(one & two, one.given + two.given)
+        self.assertEqual(one & two, two & one)
+        self.assertEqual((one & one).rules, one.rules)
+        self.assert_least(one & Book(["c", "d"], [[("d", 0, 1), ("c", 2, 1)]]), one.given + ((("c", 2, 1), ("d", 0, 1)),))
+
+    def test_plus_of_rules_with_unlike_reaches(self):
+        rows = ["a", "b"]
+        one = Book(rows, [[("a", 0, 1), ("b", 3, 1)], [("b", 0, 1), ("b", 5, -1)]])
+        two = Book(rows, [[("a", 0, 1), ("b", 3, 1)], [("b", 0, 1), ("b", 2, -1)]])
+        self.assertNotEqual(shortest(one), one.rules)
+        both = one + two
+        self.assertTrue(is_least_form(both.rules))
+        six = [("b", 0, 1), ("b", 1, 1), ("b", 5, -1), ("b", 6, -1)]
+        self.assertEqual(both, Book(rows, [one.given[0], six]))
+        self.assertEqual(one + one, one)
+        self.assertEqual((one + Book.zero(rows)).rules, one.rules)
+
+    def test_mixed_rules_of_chance(self):
+        shorter = 0
+        for source in sources(150):
+            rows = random_rows(source, 4)
+            rules = [
+                random_sum(source, rows, terms=5, shift=source.randint(0, 4)) for _ in range(source.randint(1, 3))
+            ]
+            mixed = changed(source, rules)
+            cut = source.randint(0, len(mixed))
+            one, two = Book(rows, mixed[:cut]), Book(rows, mixed[cut:])
+            shorter += sum(shortest(book) != tuple(sorted(book.rules, key=reach)) for book in (one, two))
+            both = one & two
+            self.assertEqual(both, Book(rows, rules))
+            self.assertEqual((both.rules, both.given), (Book(rows, rules).rules,) * 2)
+            self.assert_least(both, mixed)
+            three = Book(rows, changed(source, rules)[:cut])
+            added = one + three
+            self.assertTrue(is_least_form(added.rules))
+            self.assertEqual(added.given, added.rules)
+            self.assertEqual(added, three + one)
+            self.assertTrue(all(rule in one and rule in three for rule in added))
+            for length in (2, 5):
+                lines = [followers_lines(book.given, length) for book in (one, three)]
+                counts = [followers(book.given, length) for book in (one, three)]
+                self.assertEqual(followers(added.rules, length), sum(counts) - rank(lines[0] + lines[1]))
+        self.assertGreater(shorter, 10)
 
 
 def followers_lines(rules, length):

@@ -52,6 +52,12 @@ CLASS_METHODS = {
 }
 
 
+OPERATORS = set(
+    "__add__ __sub__ __mul__ __rmul__ __and__ __neg__ __contains__ __eq__ __len__ __repr__ __str__".split()
+)
+CHANGES = set("append clear extend insert pop remove reverse setdefault update add discard sort".split())
+
+
 def tree_of(path):
     return ast.parse(path.read_text(encoding="ascii"))
 
@@ -70,6 +76,62 @@ def bound_names(tree):
             if isinstance(node, ast.Name) and isinstance(node.ctx, ast.Store):
                 found.add(node.id)
     return found
+
+
+def run_by_operators():
+    """Return all functions that an operator or a property runs, also through others.
+
+    A call by a name may mean each function or class of this name, and a call
+    of a method each method of this name.
+    """
+    functions, classes, waiting = {}, {}, []
+    for path in FILES:
+        for node in tree_of(path).body:
+            if isinstance(node, ast.FunctionDef):
+                functions.setdefault(node.name, []).append(node)
+            if isinstance(node, ast.ClassDef):
+                methods = [item for item in node.body if isinstance(item, ast.FunctionDef)]
+                classes[node.name] = [item for item in methods if item.name == "__init__"]
+                for item in methods:
+                    functions.setdefault("." + item.name, []).append(item)
+                    decorators = [decorator.id for decorator in item.decorator_list]
+                    if item.name in OPERATORS or "property" in decorators:
+                        waiting.append(item)
+    found = []
+    while waiting:
+        function = waiting.pop()
+        if function in found:
+            continue
+        found.append(function)
+        for node in ast.walk(function):
+            if isinstance(node, ast.Call) and isinstance(node.func, ast.Name):
+                waiting.extend(functions.get(node.func.id, []) + classes.get(node.func.id, []))
+            if isinstance(node, ast.Call) and isinstance(node.func, ast.Attribute):
+                waiting.extend(functions.get("." + node.func.attr, []))
+    return found
+
+
+def created_names(function):
+    """Return the local names that are only assigned values that the function creates."""
+    created, other = set(), {argument.arg for argument in ast.walk(function) if isinstance(argument, ast.arg)}
+    for node in ast.walk(function):
+        if isinstance(node, ast.Assign) and isinstance(node.targets[0], ast.Name):
+            (created if creates(node.value) else other).add(node.targets[0].id)
+        elif isinstance(node, (ast.For, ast.comprehension, ast.Assign)):
+            targets = node.targets if isinstance(node, ast.Assign) else [node.target]
+            other |= {name.id for target in targets for name in ast.walk(target) if isinstance(name, ast.Name)
+                      and isinstance(name.ctx, ast.Store)}
+    return created - other
+
+
+def creates(value):
+    if isinstance(value, ast.BinOp) and isinstance(value.op, ast.Add):
+        return creates(value.left) or creates(value.right)
+    if isinstance(value, ast.Call) and isinstance(value.func, ast.Name):
+        return value.func.id in ("list", "dict", "set", "sorted")
+    if isinstance(value, ast.Subscript):
+        return isinstance(value.slice, ast.Slice)
+    return isinstance(value, (ast.List, ast.Dict, ast.Set, ast.ListComp, ast.DictComp, ast.SetComp))
 
 
 def imported_names(tree):
@@ -186,6 +248,34 @@ class LanguageTest(unittest.TestCase):
                     for argument in node.args:
                         if isinstance(argument, ast.Starred):
                             self.assertIsInstance(argument.value, ast.Name, path)
+
+    def test_operators_and_properties_call_nothing_that_may_be_held(self):
+        attributes = {
+            node.attr for path in FILES for node in ast.walk(tree_of(path))
+            if isinstance(node, ast.Attribute) and isinstance(node.ctx, ast.Store)
+        }
+        self.assertTrue({"index", "count", "rows"} <= attributes)
+        run = run_by_operators()
+        names = {function.name for function in run}
+        self.assertTrue({"least_book", "shortened", "eased", "echelon", "row_set", "least_multiple"} <= names)
+        for function in run:
+            parameters = {argument.arg for argument in ast.walk(function) if isinstance(argument, ast.arg)}
+            for node in ast.walk(function):
+                if isinstance(node, ast.Call) and isinstance(node.func, ast.Attribute):
+                    self.assertNotIn(node.func.attr, attributes, function.name)
+                if isinstance(node, ast.Call) and isinstance(node.func, ast.Name) and node.func.id != "cls":
+                    self.assertNotIn(node.func.id, parameters, function.name)
+
+    def test_operators_and_properties_change_only_what_they_created(self):
+        for function in run_by_operators():
+            created = created_names(function)
+            for node in ast.walk(function):
+                if isinstance(node, (ast.Subscript, ast.Attribute)) and not isinstance(node.ctx, ast.Load):
+                    self.assertIsInstance(node.value, ast.Name)
+                    allowed = created | ({"self"} if function.name == "__init__" else set())
+                    self.assertIn(node.value.id, allowed, function.name)
+                if isinstance(node, ast.Call) and isinstance(node.func, ast.Attribute) and node.func.attr in CHANGES:
+                    self.assertIn(node.func.value.id, created, function.name)
 
     def test_the_interface_is_defined_in_its_files(self):
         for module, names in INTERFACE.items():

@@ -50,18 +50,30 @@ def descended(line, steps, width):
     return rest
 
 
+def stepped(lines, width):
+    """Return a dict from columns to the lines that begin there, and the rest.
+
+    The rest are the lines without a number before `width`, except empty ones.
+    """
+    steps = {}
+    rests = []
+    for line in lines:
+        rest = descended(line, steps, width)
+        column = leading(rest, width)
+        if column is not None:
+            steps[column] = rest
+        elif rest:
+            rests.append(rest)
+    return steps, rests
+
+
 def reduced(lines, width):
     """Return pairs of a column and the line that begins there, ascending.
 
     No other line has a number in this column. Lines without a number before
     `width` are left out.
     """
-    steps = {}
-    for line in lines:
-        rest = descended(line, steps, width)
-        column = leading(rest, width)
-        if column is not None:
-            steps[column] = rest
+    steps, _ = stepped(lines, width)
     done = {}
     for column in sorted(steps, reverse=True):
         rest = steps[column]

@@ -18,6 +18,11 @@ def row_set(names):
     """Return the names as a row set."""
     if len(names) == 0:
         raise NoRows()
+    return different_names(names)
+
+
+def different_names(names):
+    """Return the names, of which there may be none, in ascending order."""
     for name in names:
         if not is_row_name(name):
             raise BadName(name)
@@ -27,6 +32,13 @@ def row_set(names):
             raise RowTwice(name)
         seen.add(name)
     return tuple(sorted(names))
+
+
+def chosen_rows(names, rows):
+    """Return chosen rows of a book that has these rows, in ascending order."""
+    chosen = different_names(names)
+    require_rows(chosen, rows)
+    return chosen
 
 
 def require_rows(names, rows):

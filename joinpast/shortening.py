@@ -15,7 +15,7 @@ weights are 0.
 
 from joinpast.linear import first_dependence
 from joinpast.plainpolys import cleaned
-from joinpast.vectors import first_filled, lightened
+from joinpast.vectors import first_filled, lightened, moved_vector
 
 
 def shortened(vectors, width):
@@ -57,7 +57,11 @@ def eased(weights):
 
 
 def mended(vectors, above, below):
-    """Return the vectors with one that became shorter, or None."""
+    """Return the vectors with one that became shorter, or None.
+
+    Columns behind those that have weights are carried along and do not count
+    for the lengths. The shorter vector may be zero in all that count.
+    """
     items = sorted([measured(vector, above, below) for vector in vectors])
     for at_end in (True, False):
         weights = above if at_end else below
@@ -79,18 +83,11 @@ def measured(vector, above, below):
     Of vectors with the same length the one with the greatest numbers should be
     replaced first; otherwise the numbers grow from step to step.
     """
-    filled = [at for at in range(len(vector)) if vector[at]]
+    filled = [at for at in range(len(above)) if vector[at]]
     low = min([vector[at][0][0] - below[at] for at in filled])
     high = max([vector[at][-1][0] + above[at] for at in filled])
     size = max([abs(coefficient).bit_length() for p in vector for _, coefficient in p])
     return (high - low, size, moved_vector(vector, -low))
-
-
-def moved_vector(vector, by):
-    """Return the vector with `by` added to all shifts."""
-    return tuple([
-        tuple([(shift + by, coefficient) for shift, coefficient in p]) for p in vector
-    ])
 
 
 def edge_of(vector, limit, weights, at_end):

@@ -2,7 +2,7 @@
 
 from math import gcd
 
-from joinpast.plainpolys import content, remaining
+from joinpast.plainpolys import cleaned, content, remaining
 
 
 def mixed(scale, vector, factor, other):
@@ -32,3 +32,27 @@ def first_filled(vector, width):
         if vector[column]:
             return column
     return None
+
+
+def negative(vector):
+    """Return the vector times -1."""
+    return tuple([tuple([(shift, -coefficient) for shift, coefficient in p]) for p in vector])
+
+
+def moved_vector(vector, by):
+    """Return the vector with `by` added to all shifts."""
+    return tuple([
+        tuple([(shift + by, coefficient) for shift, coefficient in p]) for p in vector
+    ])
+
+
+def combined(factors, vectors):
+    """Return the sum of the vectors times whole numbers, without a common divisor."""
+    return lightened(tuple([
+        cleaned([
+            (shift, factor * coefficient)
+            for factor, vector in zip(factors, vectors)
+            for shift, coefficient in vector[column]
+        ])
+        for column in range(len(vectors[0]))
+    ]))

@@ -3,7 +3,11 @@
 import random
 from fractions import Fraction
 
+from joinpast.books import Book
 from joinpast.families import Family
+from joinpast.following import counterexample
+from joinpast.pulses import pulses
+from joinpast.sums import sum_plus, sum_times
 
 PRIME = (1 << 61) - 1
 
@@ -190,3 +194,115 @@ def raised(call, *arguments, **named):
     except ValueError as error:
         return error
     return None
+
+
+def solvable(lines, width):
+    """Return unknowns below `width` with which lines are zero, or None.
+
+    A line is a dict from columns to Fractions; the column `width` counts as 1.
+    """
+    steps = {}
+    for line in lines:
+        rest = {at: Fraction(line[at]) for at in line if line[at]}
+        for column in sorted(steps):
+            if column in rest:
+                times = rest[column] / steps[column][column]
+                for at, held in steps[column].items():
+                    rest[at] = rest.get(at, Fraction(0)) - times * held
+                rest = {at: rest[at] for at in rest if rest[at]}
+        left = [at for at in sorted(rest) if at < width]
+        if not left and rest:
+            return None
+        if left:
+            steps[left[0]] = rest
+    found = [Fraction(0)] * width
+    for column in sorted(steps, reverse=True):
+        rest = steps[column]
+        others = sum([rest[at] * (1 if at == width else found[at]) for at in rest if at != column], Fraction(0))
+        found[column] = -others / rest[column]
+    return found
+
+
+def naive_joint(rules, past, future, place, gap):
+    """Return the entries in a gap as a dict of spots, or None if there is no joint.
+
+    All given rules are asked for at all places where they reach into the gap or
+    over it. Of an empty gap an empty dict is returned.
+    """
+    rows = past.rows
+    spots = [(row, at) for at in range(gap) for row in rows]
+    lines = []
+    for rule in rules:
+        plain = merged_sum(rule)
+        shifts = [shift for _, shift in plain]
+        for by in range(-max(shifts, default=0), gap - min(shifts, default=0)) if plain else []:
+            line = {}
+            for (row, shift), c in plain.items():
+                at = by + shift
+                column = spots.index((row, at)) if 0 <= at < gap else len(spots)
+                held = 1 if 0 <= at < gap else number((past if at < 0 else future)(row, place + at))
+                line[column] = line.get(column, Fraction(0)) + c * held
+            lines.append(line)
+    found = solvable(lines, len(spots))
+    return None if found is None else dict(zip(spots, found))
+
+
+def finite_count(rules, rows, width):
+    """Return how many independent families with entries at 0 to `width` alone keep rules."""
+    lines = []
+    for rule in rules:
+        plain = merged_sum(rule)
+        shifts = [shift for _, shift in plain]
+        for by in range(-max(shifts, default=0), width + 1 - min(shifts, default=0)) if plain else []:
+            line = {(by + shift, row): c for (row, shift), c in plain.items() if 0 <= by + shift <= width}
+            lines.append(line)
+    return len(rows) * (width + 1) - rank(lines)
+
+
+def told_count(rules, spots, margin=20):
+    """Return how many independent sums with terms at these spots follow."""
+    lines = shifted_lines(rules, -margin, margin)
+    outside = [{key: line[key] for key in line if (key[1], key[0]) not in spots} for line in lines]
+    return rank(lines) - rank(outside)
+
+
+def random_book(source, rows, shift=2, coefficient=2):
+    """Return a book whose rules are, not seldom, products with polynomials."""
+    many = source.randint(0, len(rows))
+    rules = [
+        [(row, source.randint(0, shift), source.randint(-coefficient, coefficient)) for row in rows * 2]
+        for _ in range(many)
+    ]
+    for at in range(many):
+        factor = source.choice([[(0, 1)], [(0, 1)], [(0, -1), (1, 1)], [(0, 2), (1, 1)], [(0, 1), (2, 1)]])
+        rules[at] = sum_times(factor, rules[at])
+    if many and source.randint(0, 2) == 0:
+        rules = [sum_times([(0, -1), (1, 1)], rule) for rule in rules]
+    return Book(rows, rules)
+
+
+def kept_family(source, book):
+    """Return a family that keeps the book: made of windows and of pulses."""
+    total = Family.zero(book.rows)
+    for _ in range(2):
+        wanted = [(source.choice(book.rows), 0, 1)]
+        if wanted not in book:
+            total = total + counterexample(book, wanted).moved(source.randint(-3, 3)).scaled(random_entry(source))
+    for pulse in pulses(book):
+        total = total + pulse.moved(source.randint(-4, 4)).scaled(random_entry(source))
+    return total
+
+
+def equal_book(source, book):
+    """Return a book that is equal but has other given rules."""
+    rules = [sum_times([(source.randint(-2, 2), source.choice([1, -2, 3]))], rule) for rule in book.rules]
+    for at in range(1, len(rules)):
+        rules[at] = sum_plus(rules[at], sum_times([(source.randint(-1, 1), source.randint(-1, 1))], rules[at - 1]))
+    return Book(book.rows[::-1], rules[::-1] + [[]] + rules[:1])
+
+
+def same(one, two):
+    """Tell whether two answers are the same, with families by their entries."""
+    if isinstance(one, tuple) and isinstance(two, tuple):
+        return len(one) == len(two) and all(same(mine, yours) for mine, yours in zip(one, two))
+    return one == two

@@ -6,9 +6,9 @@ ends, so in each new column they fix as many rows as there are schemes, and the
 other rows are 0.
 """
 
+from joinpast.determinants import determinant
 from joinpast.leasttails import least_tail
 from joinpast.linear import line_of, reduced
-from joinpast.minors import determinant
 from joinpast.plainpolys import normal, product_of, spread
 from joinpast.ratios import ZERO, over, plus, times, weighted
 

@@ -58,7 +58,7 @@ def without_pulse(rest, at, pulse, factor):
     found = []
     for entries, held in zip(rest, pulse.entries):
         changed = [plus(entries[at + by], times(less, held[by])) for by in range(width)]
-        found.append([*entries[:at], *changed, *entries[at + width:]])
+        found.append(list(entries[:at]) + changed + list(entries[at + width:]))
     return found
 
 

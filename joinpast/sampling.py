@@ -1,28 +1,24 @@
 """Families of which every second, third .. place is taken, and back again."""
 
+from joinpast.determinants import determinant
 from joinpast.families import Family, settled_from, settled_until
-from joinpast.linear import first_dependence
-from joinpast.plainpolys import divided, normal, spread
+from joinpast.plainpolys import cleaned, normal
 from joinpast.polynomials import span
 
 
 def sampled_polynomial(p, count):
-    """Return the least polynomial that what p goes by obeys at every `count`-th place.
+    """Return a polynomial by which every `count`-th entry of what goes by p goes.
 
-    It is the least one that p divides if all its shifts are multiplied by
-    `count`; p is a normal polynomial.
+    With all its shifts multiplied by `count` it is a product with p: the
+    determinant of what p becomes at each place of a block.
     """
-    scales = []
     lines = []
-    for at in range(spread(p) + 1):
-        scale, _, rest = divided(((count * at, 1),), p, 0)
-        held = dict(rest)
-        scales.append(scale)
-        lines.append([held.get(shift, 0) for shift in range(spread(p))])
-    factors = first_dependence(lines)
-    return normal(tuple([
-        (at, scales[at] * factors[at]) for at in range(len(factors)) if factors[at] != 0
-    ]))
+    for terms in taken_apart([("", shift, factor) for shift, factor in p], count):
+        columns = [[] for _ in range(count)]
+        for _, at, shift, factor in terms:
+            columns[at].append((shift, factor))
+        lines.append([cleaned(column) for column in columns])
+    return normal(determinant(lines))
 
 
 def sampled(family, count):

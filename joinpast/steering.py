@@ -5,8 +5,8 @@ from joinpast.books import Book, least_book
 from joinpast.forcing import forced
 from joinpast.leastform import sum_of, vector_of
 from joinpast.plainpolys import ONE
-from joinpast.rowsets import require_same_rows
 from joinpast.quotients import quotients
+from joinpast.rowsets import require_same_rows
 from joinpast.shortest import shortest
 from joinpast.syzygies import short_vectors
 from joinpast.tables import table

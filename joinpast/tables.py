@@ -1,9 +1,8 @@
 """The table of remainders of a book, and how many families obey a polynomial."""
 
+from joinpast.diagonals import diagonal
 from joinpast.divisors import common
 from joinpast.leastform import vector_of
-from joinpast.minors import divisor_of_minors
-from joinpast.plainpolys import ONE, divided, normal
 from joinpast.polynomials import span
 from joinpast.shortest import shortest
 
@@ -11,17 +10,11 @@ from joinpast.shortest import shortest
 def table(book):
     """Return the table of remainders.
 
-    The shortest rules have the same greatest common divisors of determinants
-    as the least form, because each follows from the other.
+    The greatest common divisors of determinants stay the same if rules are
+    replaced by others from which the same follows. So they are those of a
+    diagonal scheme, in which each polynomial divides the next one.
     """
-    vectors = [vector_of(book.rows, rule) for rule in shortest(book)]
-    found = []
-    upper = divisor_of_minors(vectors, len(vectors))
-    for size in range(len(vectors) - 1, -1, -1):
-        lower = ONE if upper == ONE else divisor_of_minors(vectors, size)
-        found.append(normal(divided(upper, lower, 0)[1]))
-        upper = lower
-    return tuple(found[::-1])
+    return tuple(diagonal([vector_of(book.rows, rule) for rule in shortest(book)]))
 
 
 def count_obeying(book, p):

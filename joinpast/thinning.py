@@ -32,7 +32,9 @@ def refined(book, family, count):
     if count == 1:
         return family
     width = len(book.rows)
-    names = [["e" + str(row) + "x" + str(at) for at in range(count)] for row in range(width)]
+    # The names stand in the order of the rows, however many these are.
+    heads = ["e" + str(row).zfill(5) for row in range(width)]
+    names = [[head + "x" + str(at) for at in range(count)] for head in heads]
     left_out = [names[row][at] for at in range(1, count) for row in range(width)]
     shown = Family(
         [named[0] for named in names], family.first, family.entries,

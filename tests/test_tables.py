@@ -4,7 +4,9 @@ from itertools import combinations, permutations
 from helpers import (
     all_tuples, equal_book, product, random_book, random_polynomial, random_rows, rank, raised, shifted_lines, sources,
 )
+from joinpast.blocks import blocked_book
 from joinpast.books import Book
+from joinpast.determinants import determinant
 from joinpast.divisors import common
 from joinpast.errors import ZeroPolynomial
 from joinpast.polynomials import divides, normal_polynomial, poly_plus, span
@@ -94,6 +96,25 @@ class TableTest(unittest.TestCase):
         self.assertEqual(span(table(book)[5]), 6)
         twice = Book(rows, [sum_times([(0, -1), (1, 1)], rule) for rule in rules[:3]])
         self.assertEqual(table(twice), (SAME,) * 3)
+
+
+    def test_more_rows_than_can_be_passed(self):
+        rows = list("abcdef")
+        rules = [[(row, 0, 2), (row, 1, -3), (after, 1, 1)] for row, after in zip(rows, rows[1:])]
+        wide = blocked_book(Book(rows, [sum_times([(0, -2), (1, 1)], rules[0])] + rules[1:]), 6)
+        self.assertEqual((len(wide.rows), len(wide)), (36, 30))
+        self.assertEqual(table(wide)[-2:], (ONE, ((0, -64), (1, 1))))
+
+
+class DeterminantTest(unittest.TestCase):
+    def test_determinants_of_chance(self):
+        self.assertEqual(determinant([]), ONE)
+        for source in sources(100):
+            size = source.randint(1, 4)
+            lines = [[product(random_polynomial(source), ONE) for _ in range(size)] for _ in range(size)]
+            found = determinant(lines)
+            expected = naive_determinant(lines)
+            self.assertIn(found, (expected, product([(0, -1)], expected)))
 
 
 class CountTest(unittest.TestCase):

@@ -3,6 +3,7 @@ import unittest
 from helpers import (
     equal_book, followers, kept_family, random_book, random_family, random_rows, raised, same, sources, told_count,
 )
+from joinpast.blocks import blocked_book
 from joinpast.books import Book
 from joinpast.errors import Broken, RowsDiffer
 from joinpast.families import Family
@@ -63,6 +64,14 @@ class ThinningTest(unittest.TestCase):
         book = Book(rows, [[(row, at, 1) for at, row in enumerate(rows)]])
         self.assertEqual(thinned_book(book, 2), Book.free(rows))
         self.assert_refined(book, Family(rows, -1, [[1, 2], [3, 4], [5, 6], [7, 8], [9, 1]]), 2)
+
+    def test_more_rows_than_can_be_passed(self):
+        rows = list("abcdef")
+        book = Book(rows, [[(row, 0, 1), (after, 1, 2)] for row, after in zip(rows, rows[1:])])
+        wide = blocked_book(book, 2)
+        self.assertEqual(len(wide.rows), 12)
+        source = next(iter(sources(1)))
+        self.assert_refined(wide, kept_family(source, thinned_book(wide, 2)), 2)
 
     def test_errors_in_their_order(self):
         error = raised(refined, DOUBLING, Family.zero(["y"]), 2)

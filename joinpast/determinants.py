@@ -1,6 +1,5 @@
-"""Determinants of polynomials and their greatest common divisors."""
+"""Determinants of polynomials."""
 
-from joinpast.divisors import common
 from joinpast.plainpolys import ONE, cleaned, divided, product_of, spread
 
 
@@ -30,29 +29,3 @@ def crossed(first, line, last):
         divided(cleaned(product_of(first[0], held) + product_of(minus, other)), last, 0)[1]
         for other, held in zip(first[1:], line[1:])
     ]
-
-
-def divisor_of_minors(vectors, count):
-    """Return the greatest common divisor of all determinants of a size.
-
-    It is the normal polynomial, or zero if all determinants are zero.
-    """
-    found = ()
-    width = len(vectors[0]) if vectors else 0
-    for lines in choices(len(vectors), count):
-        for columns in choices(width, count):
-            minor = determinant([[vectors[at][column] for column in columns] for at in lines])
-            found = common(found, minor)
-            if found == ONE:
-                return found
-    return found
-
-
-def choices(many, count):
-    """Return all ascending lists of `count` numbers below `many`."""
-    found = [[]]
-    for _ in range(count):
-        found = [
-            chosen + [at] for chosen in found for at in range(chosen[-1] + 1 if chosen else 0, many)
-        ]
-    return found

@@ -1,7 +1,7 @@
 """Own rules of sums, and families in which sums have given courses."""
 
-from joinpast.echelon import echelon
 from joinpast.books import Book
+from joinpast.echelon import echelon
 from joinpast.errors import BreaksOwnRule, NotCourse
 from joinpast.forcing import forced
 from joinpast.keeping import first_break

@@ -34,10 +34,12 @@ def least_squares(sums, values):
         for row, shift, factor in sums[index]:
             held.setdefault((row, shift), []).append((index, factor))
     weights = sum_weights(sums, held, values)
-    return {
-        spot: weighted([factor for _, factor in held[spot]], [weights[index] for index, _ in held[spot]])
-        for spot in held
-    }
+    return {spot: entry_of(held[spot], weights) for spot in held}
+
+
+def entry_of(pairs, weights):
+    """Return the sum of factors times weights, from pairs of an index and a factor."""
+    return weighted([factor for _, factor in pairs], [weights[index] for index, _ in pairs])
 
 
 def sum_weights(sums, held, values):

@@ -7,16 +7,19 @@ from joinpast.leastform import sum_of
 from joinpast.plainpolys import normal
 from joinpast.syzygies import short_vectors
 from joinpast.tails import mirrored
+from joinpast.trimming import trimmed
 from joinpast.vectors import moved_vector, negative
 
 
-def forced(rows, vectors, known):
-    """Return a family with the rows that keeps rules beside the known family.
+def forced(rows, vectors, family):
+    """Return a family with the rows that keeps rules beside the one that is passed.
 
     The vectors have a column for each of the rows and behind them one for each
-    row of the known family. All that follows from them about the known family
-    alone is kept by it; so the family can go on from anywhere to both sides.
+    row of the family that is passed. All that follows from them about this one
+    alone is kept by it; so the other one can go on from anywhere to both sides.
+    It starts where the shortest stretch of the family that is passed tells.
     """
+    known = trimmed(family)
     width = len(rows)
     found = [begun_at_zero(vector, width) for vector in short_vectors(vectors, width)]
     schemes = [scheme_of(vector[:width]) for vector in found]

@@ -274,10 +274,11 @@ def random_book(source, rows, shift=2, coefficient=2):
         for _ in range(many)
     ]
     for at in range(many):
-        factor = source.choice([[(0, 1)], [(0, 1)], [(0, -1), (1, 1)], [(0, 2), (1, 1)], [(0, 1), (2, 1)]])
+        factor = source.choice([[(0, 1)], [(0, 1)], [(0, -1), (1, 1)], [(0, 2), (1, 3)], [(0, 1), (2, 1)]])
         rules[at] = sum_times(factor, rules[at])
-    if many and source.randint(0, 2) == 0:
-        rules = [sum_times([(0, -1), (1, 1)], rule) for rule in rules]
+    if source.randint(0, 2) == 0:
+        shared = source.choice([[(0, -1), (1, 1)], [(0, 2), (1, 3)]])
+        rules = [sum_times(shared, rule) for rule in rules]
     return Book(rows, rules)
 
 

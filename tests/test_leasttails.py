@@ -3,6 +3,7 @@
 import unittest
 
 from helpers import product, random_end, random_entry, sources
+from joinpast.divisors import common
 from joinpast.families import Family
 from joinpast.leasttails import least_tail
 from joinpast.modular import PRIME, found_divisor, inverse
@@ -32,6 +33,16 @@ class LeastTailTest(unittest.TestCase):
         self.assertEqual(least_tail([((PRIME, 1), (1, 1))], last), ((0, -1), (1, PRIME)))
         hidden = normal_polynomial(product([(0, -1), (1, 1 + PRIME)], SAME))
         self.assertEqual(least_tail([((1, 1), (2, 1))], hidden), hidden)
+
+    def test_found_divisors(self):
+        self.assertEqual(found_divisor(((0, -6), (1, 5), (2, 6)), [((0, -2), (1, 3))]), ((0, -2), (1, 3)))
+        self.assertEqual(found_divisor(((0, -6), (1, 5), (2, 6)), [((0, 1), (5, 1))]), ((0, 1),))
+        for source in sources(150):
+            shared, *parts = [random_end(source, 3) + [(0, 0)] for _ in range(4)]
+            p = normal_polynomial(product(shared, parts[0]))
+            others = [normal_polynomial(product(shared, part)) for part in parts[1:]]
+            others = [tuple((shift + at, 7 * c) for shift, c in other) for at, other in enumerate(others)]
+            self.assertEqual(found_divisor(p, others), common(common(p, others[0]), others[1]))
 
     def test_inverse(self):
         for number in (1, 2, 3, PRIME - 1, 12345678901234567890):

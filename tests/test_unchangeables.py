@@ -4,7 +4,7 @@ from helpers import all_tuples, equal_book, random_book, random_polynomial, rand
 from joinpast.books import Book
 from joinpast.errors import UnknownRow
 from joinpast.ownrules import own_rule
-from joinpast.polynomials import divides, normal_polynomial, polynomial
+from joinpast.polynomials import divides, normal_polynomial, poly_times, polynomial
 from joinpast.steering import steerable_part
 from joinpast.sums import ordered, sum_plus, sum_times
 from joinpast.tables import table
@@ -78,6 +78,24 @@ class UnchangeablesTest(unittest.TestCase):
             sum_plus(book.given[0], book.given[2]), book.given[1], sum_plus(book.given[2], sum_times([(1, 2)], book.given[1])),
         ])
         self.assertEqual(len(self.assert_unchangeables(mixed)), 3)
+
+    def test_polynomials_that_divide_only_multiples(self):
+        rows = ["a", "b", "c"]
+        p = [(0, 2), (1, 3)]
+        rules = [[("a", 0, 1), ("b", 1, 5), ("c", 0, 2)], [("b", 0, 2), ("c", 1, 7)], [("c", 0, 3)]]
+        powers = [sum_times(p, rules[0]), sum_times(p, sum_times(p, rules[1])), sum_times(p, sum_times(p, rules[2]))]
+        book = Book(rows, [
+            sum_plus(powers[0], sum_times([(1, 2)], powers[1])), sum_plus(powers[1], sum_times([(0, 3)], powers[2])), powers[2],
+        ])
+        found = self.assert_unchangeables(book)
+        self.assertEqual([normal_polynomial(q)[-1][1] for _, q in found], [3, 9, 9])
+        for source in sources(60):
+            mixed = [sum_times([(0, source.randint(1, 3)), (1, source.randint(-1, 1))], rule) for rule in rules]
+            mixed[1] = sum_plus(mixed[1], sum_times([(source.randint(0, 1), 2)], mixed[0]))
+            mixed[2] = sum_plus(mixed[2], sum_times([(0, source.randint(-2, 2))], mixed[1]))
+            factors = [p, poly_times(p, [(0, -1), (1, 2)]), poly_times(p, poly_times(p, [(0, -1), (1, 2)]))]
+            source.shuffle(factors)
+            self.assert_unchangeables(Book(rows, [sum_times(q, rule) for q, rule in zip(factors, mixed)]))
 
     def test_a_sum_that_follows_has_parts_that_follow(self):
         book = Book(["x"], [[("x", 0, 1), ("x", 1, -1)]])

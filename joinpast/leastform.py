@@ -74,8 +74,16 @@ def shared_rules(rows, one, two):
 def derived(rows, rules, terms):
     """Return (m, factors) with m * terms = the factors applied to the rules.
 
-    The sum follows from the rules. Each vector carries, behind its columns for
-    the rows, the factors by which it came from the given rules.
+    The sum follows from the rules.
+    """
+    return derived_each(rows, rules, [terms])[0]
+
+
+def derived_each(rows, rules, sums):
+    """Return the pair that `derived` returns for each of the sums.
+
+    Each vector carries, behind its columns for the rows, the factors by which
+    it came from the given rules.
     """
     width = len(rows)
     needed = needed_rules(rows, rules)
@@ -85,13 +93,16 @@ def derived(rows, rules, terms):
     ]
     vectors = [vector_of(rows, rules[at]) + mark for at, mark in zip(needed, marks)]
     steps, _ = echelon(vectors, width)
-    rest = vector_of(rows, terms) + marks[len(needed)]
-    for column, step in steps:
-        rest = freed(rest, column, step)
-    factors = [() for _ in rules]
-    for at, factor in zip(needed, rest[width:-1]):
-        factors[at] = tuple([(shift, -coefficient) for shift, coefficient in factor])
-    return (rest[-1][0][1], tuple(factors))
+    pairs = []
+    for terms in sums:
+        rest = vector_of(rows, terms) + marks[len(needed)]
+        for column, step in steps:
+            rest = freed(rest, column, step)
+        factors = [() for _ in rules]
+        for at, factor in zip(needed, rest[width:-1]):
+            factors[at] = tuple([(shift, -coefficient) for shift, coefficient in factor])
+        pairs.append((rest[-1][0][1], tuple(factors)))
+    return pairs
 
 
 def needed_rules(rows, rules):

@@ -62,9 +62,35 @@ INTERFACE = {
     "thinning": "thinned thinned_book refined",
     "seeing": "formula unseen told_rows unseen_book",
     "looking": "look",
+    "fewest": "fewest_shown",
+    "despites": "Despite despite",
+    "truths": "suspects truth",
+    "enforcing": "bounds Enforcement enforce",
+    "switching": "Switch switch switched",
+    "fresh": "are_fresh fresh_rules",
+    "explaining": "explains strictest",
+    "showing": "shows unshown_rule first_unshown",
+    "stretches": "read_off stretch_shows liveliness",
+    "memory": "memory memory_size family_with_memory",
+    "machines": "Machine Trying attempt during",
+    "freerows": "is_free free_sets",
+    "timely": "is_timely foreseeing response delay",
+    "alike": "translated Likeness compare",
+    "desks": "Desk Trial perform inside",
+    "sumnotes": "format_fraction parse_fraction format_polynomial parse_polynomial format_sum parse_sum",
+    "booknotes": "format_book parse_book",
+    "familynotes": "format_family parse_family",
 }
 CLASS_METHODS = {
     "Joining": "__init__",
+    "Despite": "__init__",
+    "Enforcement": "__init__",
+    "Switch": "__init__",
+    "Likeness": "__init__",
+    "Machine": "__init__ remembered at_rest lets step run",
+    "Trying": "__init__ __enter__ __exit__",
+    "Desk": "__init__ deeds standing_book __len__ enter withdraw undo",
+    "Trial": "__init__ __enter__ __exit__ keep",
     "Book": "__init__ __and__ __add__ __contains__ __eq__ __len__ __iter__ free_count free zero",
     "Family": "__init__ entry window __call__ __add__ __sub__ __neg__ __mul__ __rmul__ __eq__ moved turned only "
               "beside renamed scaled applied zero pulse is_finite extent",
@@ -295,6 +321,29 @@ class LanguageTest(unittest.TestCase):
                     self.assertIn(node.value.id, allowed, function.name)
                 if isinstance(node, ast.Call) and isinstance(node.func, ast.Attribute) and node.func.attr in CHANGES:
                     self.assertIn(node.func.value.id, created, function.name)
+
+    def test_blocks_end_with_plain_assignments(self):
+        exits = [function for path in FILES for function in functions_of(tree_of(path)) if function.name == "__exit__"]
+        self.assertEqual(len(exits), 2)
+        for function in exits:
+            self.assertEqual([argument.arg for argument in function.args.args], ["self", "kind", "value", "trace"])
+            for node in ast.walk(function):
+                self.assertNotIsInstance(node, (ast.Call, ast.Subscript, ast.Return, ast.BinOp, ast.AugAssign))
+                if isinstance(node, ast.If):
+                    self.assertIsInstance(node.test.ops[0], (ast.Is, ast.IsNot))
+                if isinstance(node, ast.Name) and isinstance(node.ctx, ast.Load):
+                    self.assertNotIn(node.id, ("kind", "value", "trace"))
+
+    def test_no_name_is_a_method_in_one_class_and_an_attribute_in_another(self):
+        methods = {
+            item.name for path in FILES for node in tree_of(path).body if isinstance(node, ast.ClassDef)
+            for item in node.body if isinstance(item, ast.FunctionDef)
+        }
+        attributes = {
+            node.attr for path in FILES for node in ast.walk(tree_of(path))
+            if isinstance(node, ast.Attribute) and isinstance(node.ctx, ast.Store)
+        }
+        self.assertFalse(methods & attributes)
 
     def test_the_interface_is_defined_in_its_files(self):
         for module, names in INTERFACE.items():

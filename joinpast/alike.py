@@ -9,6 +9,7 @@ from joinpast.fresh import fresh_rules
 from joinpast.leastform import derived_each
 from joinpast.plainpolys import ONE
 from joinpast.rowsets import require_rows, row_set
+from joinpast.shortest import shortest
 from joinpast.steering import steerable_part
 from joinpast.sums import ordered, rows_of, sum_plus, sum_times
 from joinpast.tables import count_obeying, table
@@ -98,7 +99,7 @@ def formulas_for(book, sums, others):
     """
     wanted = [((row, 0, 1),) for row in book.rows]
     found = []
-    for divisor, factors in derived_each(book.rows, list(book.rules) + sums, wanted):
+    for divisor, factors in derived_each(book.rows, list(shortest(book)) + sums, wanted):
         total = ()
         for factor, terms in zip(factors[len(book):], others):
             total = sum_plus(total, sum_times(factor, terms))

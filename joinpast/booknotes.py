@@ -2,7 +2,7 @@
 
 from joinpast.books import Book
 from joinpast.errors import BadNotation
-from joinpast.notelines import ended_lines, read_rows, rows_line
+from joinpast.notelines import ended_lines, read_rows, required, rows_line
 from joinpast.sumnotes import format_sum, read_sum
 from joinpast.sums import rows_of
 
@@ -16,15 +16,8 @@ def format_book(book):
 def parse_book(text):
     """Return the book that is written so, with these given rules."""
     lines, rest = ended_lines(text)
-    rows = read_rows(lines[0]) if lines else None
-    if rows is None:
-        raise BadNotation(0)
-    rules = []
-    for at in range(1, len(lines)):
-        rule = read_rule(lines[at], rows)
-        if rule is None:
-            raise BadNotation(at)
-        rules.append(rule)
+    rows = required(read_rows(lines[0]) if lines else None, 0)
+    rules = [required(read_rule(lines[at], rows), at) for at in range(1, len(lines))]
     if rest:
         raise BadNotation(len(lines))
     return Book(rows, rules)

@@ -18,13 +18,18 @@ def completed(book, window, *, place=0):
         raise CannotStand(broken)
     plain = plain_window(window)
     columns = [list(column) for column in zip(*plain)]
-    schemes = [scheme_of(book.rows, rule) for rule in shortest(book)]
+    schemes = schemes_of(book)
     right, after = continued(schemes, len(book.rows), columns)
     known = columns + right
     left, before = continued([scheme[::-1] for scheme in schemes], len(book.rows), known[::-1])
     held = left[::-1] + known
     entries = [[column[at] for column in held] for at in range(len(book.rows))]
     return Family(book.rows, place - len(left), entries, before=mirrored(before), after=after)
+
+
+def schemes_of(book):
+    """Return the shortest rules as schemes."""
+    return [scheme_of(book.rows, rule) for rule in shortest(book)]
 
 
 def scheme_of(rows, rule):

@@ -3,7 +3,7 @@
 from joinpast.digits import read_number, written_number
 from joinpast.errors import BadNotation
 from joinpast.families import Family
-from joinpast.notelines import ended_lines, read_rows, rows_line
+from joinpast.notelines import ended_lines, read_rows, required, rows_line
 from joinpast.plainpolys import normal, spread
 from joinpast.sumnotes import format_fraction, format_polynomial, read_fraction, read_polynomial
 
@@ -26,13 +26,13 @@ def format_family(family):
 def parse_family(text):
     """Return the family that is written so, with these fields."""
     lines, rest = ended_lines(text)
-    rows = required_at(0, read_rows(line_at(lines, 0)))
-    first = required_at(1, read_number(behind_head(lines, 1)))
-    before = required_at(2, read_normal(behind_head(lines, 2)))
-    after = required_at(3, read_normal(behind_head(lines, 3)))
+    rows = required(read_rows(line_at(lines, 0)), 0)
+    first = required(read_number(behind_head(lines, 1)), 1)
+    before = required(read_normal(behind_head(lines, 2)), 2)
+    after = required(read_normal(behind_head(lines, 3)), 3)
     entries = []
     for at in range(len(rows)):
-        sequence = required_at(4 + at, read_entries(line_at(lines, 4 + at), rows[at]))
+        sequence = required(read_entries(line_at(lines, 4 + at), rows[at]), 4 + at)
         if not entries and len(sequence) < max(spread(before), spread(after)):
             raise BadNotation(4 + at)
         if entries and len(sequence) != len(entries[0]):
@@ -41,13 +41,6 @@ def parse_family(text):
     if len(lines) > 4 + len(rows) or rest:
         raise BadNotation(4 + len(rows))
     return Family(rows, first, entries, before=before, after=after)
-
-
-def required_at(line, value):
-    """Return the value that was read from a line, or raise an error if there is none."""
-    if value is None:
-        raise BadNotation(line)
-    return value
 
 
 def line_at(lines, at):

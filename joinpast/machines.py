@@ -1,10 +1,9 @@
 """Machines that read a family place by place and remember what matters."""
 
-from joinpast.completing import scheme_of
+from joinpast.completing import schemes_of
 from joinpast.errors import BadStretch, NotLet
 from joinpast.memory import memory_size, plain_values
 from joinpast.ratios import ZERO, fraction, plus, weighted
-from joinpast.shortest import shortest
 from joinpast.tails import plain_window, require_even
 
 
@@ -14,7 +13,7 @@ class Machine:
     def __init__(self, book, remembered=None):
         values = [0 for _ in range(memory_size(book))] if remembered is None else remembered
         self.book = book
-        self.schemes = tuple([scheme_of(book.rows, rule) for rule in shortest(book)])
+        self.schemes = tuple(schemes_of(book))
         self.held = plain_values(book, values)
 
     @property

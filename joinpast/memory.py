@@ -1,6 +1,6 @@
 """What of a past must be remembered to know its futures."""
 
-from joinpast.completing import completed, scheme_of
+from joinpast.completing import completed, schemes_of
 from joinpast.continuing import gone_on, most_of
 from joinpast.errors import BadParts
 from joinpast.plainpolys import ONE
@@ -41,7 +41,7 @@ def family_with_memory(book, values):
     place 0 must have the opposite of its remembered value in them.
     """
     held = plain_values(book, values)
-    schemes = [scheme_of(book.rows, rule) for rule in shortest(book)]
+    schemes = schemes_of(book)
     farthest = max([len(scheme) - 1 for scheme in schemes], default=0)
     wanted = [[ZERO for _ in schemes] for _ in range(farthest + most_of(schemes, ONE))]
     start = 0

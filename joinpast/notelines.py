@@ -1,6 +1,14 @@
 """Lines of written forms."""
 
+from joinpast.errors import BadNotation
 from joinpast.rowsets import is_row_name
+
+
+def required(value, line):
+    """Return what was read from a line, or raise an error if that is None."""
+    if value is None:
+        raise BadNotation(line)
+    return value
 
 
 def ended_lines(text):

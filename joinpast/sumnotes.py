@@ -1,7 +1,7 @@
 """Written forms of fractions, polynomials and sums."""
 
 from joinpast.digits import read_number, written_number
-from joinpast.errors import BadNotation
+from joinpast.notelines import required
 from joinpast.polynomials import polynomial
 from joinpast.ratios import fraction
 from joinpast.rowsets import is_row_name
@@ -18,7 +18,7 @@ def format_fraction(value):
 
 def parse_fraction(text):
     """Return the fraction that is written so."""
-    return required(read_fraction(text))
+    return required(read_fraction(text), 0)
 
 
 def format_polynomial(p):
@@ -28,7 +28,7 @@ def format_polynomial(p):
 
 def parse_polynomial(text):
     """Return the polynomial that is written so."""
-    return required(read_polynomial(text))
+    return required(read_polynomial(text), 0)
 
 
 def format_sum(terms):
@@ -38,14 +38,7 @@ def format_sum(terms):
 
 def parse_sum(text):
     """Return the sum that is written so."""
-    return required(read_sum(text))
-
-
-def required(value):
-    """Return the value that was read, or raise an error if there is none."""
-    if value is None:
-        raise BadNotation(0)
-    return value
+    return required(read_sum(text), 0)
 
 
 def listed(items):

@@ -1,10 +1,10 @@
 """Free rows that tell, place by place, the entries of all rows."""
 
-from joinpast.completing import continued, scheme_of
+from joinpast.completing import continued, schemes_of
 from joinpast.continuing import gone_on, most_of
 from joinpast.errors import NotFree, NotTimely
 from joinpast.families import Family
-from joinpast.freerows import are_free
+from joinpast.freerows import leaves_free
 from joinpast.hiding import other_rows
 from joinpast.linear import first_dependence
 from joinpast.plainpolys import ONE
@@ -42,15 +42,10 @@ def delay(book, chosen, row, by):
     return None if extent is None else extent[0]
 
 
-def schemes_of(book):
-    """Return the shortest rules as schemes: for each shift the coefficients of all rows."""
-    return [scheme_of(book.rows, rule) for rule in shortest(book)]
-
-
 def free_rows(book, chosen):
     """Return chosen rows in ascending order if they are one of the free sets."""
     free = chosen_rows(chosen, book.rows)
-    if len(free) != book.free_count or not are_free(book, free):
+    if len(free) != book.free_count or not leaves_free(book.rows, shortest(book), free):
         raise NotFree(free)
     return free
 

@@ -1,6 +1,6 @@
 import unittest
 
-from helpers import all_tuples, equal_book, kept_family, random_book, random_rows, raised, rank, sources
+from helpers import all_tuples, equal_book, kept_family, random_book, random_family, random_rows, raised, rank, sources
 from joinpast.books import Book
 from joinpast.courses import course
 from joinpast.errors import Broken, RowsDiffer
@@ -64,6 +64,15 @@ class ShowingTest(unittest.TestCase):
             error = raised(call, PUMP, broken)
             self.assertIsInstance(error, Broken)
             self.assertEqual((error.place, error.index), first_break(PUMP, broken))
+
+    def test_how_a_family_is_written_down_does_not_matter(self):
+        for source in sources(40):
+            book = random_book(source, random_rows(source, 3))
+            family = kept_family(source, book)
+            other = random_family(source, list(book.rows))
+            again = family + other - other
+            self.assertEqual([unshown_rule(book, again, length) for length in range(6)],
+                             [unshown_rule(book, family, length) for length in range(6)])
 
     def test_books_of_chance(self):
         lengths = {}

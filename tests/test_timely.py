@@ -98,7 +98,8 @@ class ResponseTest(unittest.TestCase):
         return family
 
     def test_interface_example(self):
-        self.assertEqual(delay(PUMP, ["pump"], "pump", "level"), 1)
+        found = [free_sets(PUMP), is_timely(PUMP, ["level"]), delay(PUMP, ["pump"], "pump", "level")]
+        self.assertEqual(found, [(("level",), ("pump",)), False, 1])
         found = self.assert_response(PUMP, ["pump"], "pump")
         self.assertEqual(found.window(-1, 4), (((0, 1), (0, 1), (1, 1), (1, 1)), ((0, 1), (1, 1), (0, 1), (0, 1))))
 

@@ -4,9 +4,8 @@ from joinpast.choices import choices
 from joinpast.errors import NoRows
 from joinpast.families import Family
 from joinpast.hiding import other_rows
-from joinpast.rowsets import chosen_rows, require_rows
+from joinpast.rowsets import chosen_rows
 from joinpast.seeing import formula, unseen
-from joinpast.sums import ordered, rows_of
 
 
 class Despite:
@@ -25,13 +24,11 @@ def despite(book, read, terms, *, liars):
     if len(read) == 0:
         raise NoRows()
     chosen = chosen_rows(read, book.rows)
-    plain = ordered(terms)
-    require_rows(rows_of(plain), book.rows)
     pairs = []
     for left_out in choices(chosen, min(2 * liars, len(chosen))):
-        found = formula(book, other_rows(chosen, left_out), plain)
+        found = formula(book, other_rows(chosen, left_out), terms)
         if found is None:
-            return unsure(book, chosen, plain, left_out, liars)
+            return unsure(book, chosen, terms, left_out, liars)
         pairs.append((left_out, found))
     return Despite(tuple(pairs), None, None, None)
 

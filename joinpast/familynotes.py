@@ -34,7 +34,7 @@ def parse_family(text):
     for at in range(len(rows)):
         sequence = required(read_entries(line_at(lines, 4 + at), rows[at]), 4 + at)
         if not entries and len(sequence) < max(spread(before), spread(after)):
-            raise BadNotation(4 + at)
+            raise BadNotation(4)
         if entries and len(sequence) != len(entries[0]):
             raise BadNotation(4 + at)
         entries.append(sequence)

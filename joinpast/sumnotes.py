@@ -57,8 +57,6 @@ def read_fraction(text):
         return None
     if len(numbers) == 1:
         return (numbers[0], 1)
-    if numbers[1] == 0:
-        return None
     value = (numbers[0], numbers[1])
     return value if numbers[1] > 1 and fraction(value) == value else None
 

@@ -6,13 +6,11 @@ from joinpast.despites import despite
 from joinpast.errors import Contradiction, Unsure
 from joinpast.hiding import other_rows, shown_book
 from joinpast.keeping import keeps
-from joinpast.rowsets import require_rows
 from joinpast.seeing import formula
 
 
 def suspects(book, readings, *, liars):
     """Return all smallest sets of at most `liars` rows that may have lied."""
-    require_rows(readings.rows, book.rows)
     known = shown_book(book, readings.rows)
     found = []
     for count in range(min(liars, len(readings.rows)) + 1):

@@ -7,6 +7,7 @@ from joinpast.books import Book
 from joinpast.families import Family
 from joinpast.following import counterexample
 from joinpast.pulses import pulses
+from joinpast.ratios import without_bottoms
 from joinpast.sums import sum_plus, sum_times
 
 PRIME = (1 << 61) - 1
@@ -124,6 +125,16 @@ def naively_follows(rules, terms, margin=20):
     lines = shifted_lines(rules, -margin, margin)
     wanted = {(shift, row): c for (row, shift), c in merged_sum(terms).items()}
     return rank(lines + [wanted]) == rank(lines)
+
+
+def window_lines(families, length, reach=30):
+    """Return the windows of families, read entry by entry, as lines of whole numbers."""
+    lines = []
+    for family in families:
+        for place in range(-reach, reach):
+            whole = without_bottoms(family.window(place, length))
+            lines.append({(row, at): whole[row][at] for row in range(len(whole)) for at in range(length)})
+    return lines
 
 
 def random_polynomial(source, pairs=3, shift=3, coefficient=3):

@@ -1,26 +1,17 @@
 import unittest
 
-from helpers import Naive, followers, kept_family, random_book, random_family_parts, random_rows, raised, rank, sources
+from helpers import (
+    Naive, followers, kept_family, random_book, random_family_parts, random_rows, raised, rank, sources, window_lines,
+)
 from joinpast.books import Book
 from joinpast.comparing import within
 from joinpast.errors import NoFamilies, RowsDiffer
 from joinpast.explaining import explains, strictest
 from joinpast.families import Family
 from joinpast.keeping import keeps
-from joinpast.ratios import without_bottoms
 
 GROWN = [(0, -1), (1, -1), (2, 1)]
 PUMP = Book(["level", "pump"], [[("level", 1, 1), ("level", 0, -1), ("pump", 0, -1)]])
-
-
-def window_lines(families, length, reach=30):
-    """Return the windows of families, read entry by entry, as lines of whole numbers."""
-    lines = []
-    for family in families:
-        for place in range(-reach, reach):
-            whole = without_bottoms(family.window(place, length))
-            lines.append({(row, at): whole[row][at] for row in range(len(whole)) for at in range(length)})
-    return lines
 
 
 class ExplainsTest(unittest.TestCase):

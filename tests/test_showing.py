@@ -1,6 +1,8 @@
 import unittest
 
-from helpers import all_tuples, equal_book, kept_family, random_book, random_family, random_rows, raised, rank, sources
+from helpers import (
+    all_tuples, equal_book, kept_family, random_book, random_family, random_rows, raised, rank, sources, window_lines,
+)
 from joinpast.books import Book
 from joinpast.courses import course
 from joinpast.errors import Broken, RowsDiffer
@@ -9,7 +11,6 @@ from joinpast.families import Family
 from joinpast.keeping import first_break
 from joinpast.showing import first_unshown, shows, unshown_rule
 from joinpast.windows import window_freedom
-from test_explaining import window_lines
 
 PUMP = Book(["level", "pump"], [[("level", 1, 1), ("level", 0, -1), ("pump", 0, -1)]])
 LINE = [(0, 1), (1, -2), (2, 1)]

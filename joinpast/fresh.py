@@ -26,11 +26,12 @@ def fresh_rules(book, wish):
     require_stricter(book, wish)
     if book == wish:
         return ()
-    inner = inner_book(book, wish)
+    rules = shortest(wish)
+    inner = inner_book(book, rules)
     vectors = [vector_of(inner.rows, rule) for rule in shortest(inner)]
     if not is_completable(vectors, len(inner.rows)):
         return None
-    return tuple([outer_rule(wish, vector) for vector in completing_vectors(vectors, len(inner.rows))])
+    return tuple([outer_rule(rules, vector) for vector in completing_vectors(vectors, len(inner.rows))])
 
 
 def is_completable(vectors, width):

@@ -34,21 +34,21 @@ def switch(book, wish):
     require_stricter(book, wish)
     if book == wish:
         return Switch(0, None)
-    inner = inner_book(book, wish)
+    rules = shortest(wish)
+    inner = inner_book(book, rules)
     for rule in steerable_part(inner).rules:
         if rule not in inner:
-            return Switch(None, outer_rule(wish, [part_of(rule, row) for row in inner.rows]))
-    return Switch(greatest_gap(inner, wish), None)
+            return Switch(None, outer_rule(rules, [part_of(rule, row) for row in inner.rows]))
+    return Switch(greatest_gap(inner, [reach(rule) for rule in rules]), None)
 
 
-def greatest_gap(inner, wish):
-    """Return the least gap for an inner book that is steerable.
+def greatest_gap(inner, lengths):
+    """Return the least gap for a steerable inner book and the reaches of the rules.
 
     A sum that follows from the wish and has only shifts less than 0 consists
     of rules of the wish that end there. So the course of a rule is known up to
     its reach before the gap, and only the rest of the gap is left to steer it.
     """
-    lengths = [reach(rule) for rule in shortest(wish)]
     longest = max(lengths)
     above = [longest - each for each in lengths]
     below = [0 for _ in lengths]

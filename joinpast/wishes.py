@@ -21,22 +21,21 @@ def numbered_rows(count):
     return tuple(["w" + str(at).zfill(5) for at in range(count)])
 
 
-def inner_book(book, wish):
-    """Return the book that the courses of the wish's shortest rules keep.
+def inner_book(book, rules):
+    """Return the book that the courses of the shortest rules of a wish keep.
 
     It has a row for each of these rules, of which there is at least one. The
     rules of the book come from them, and the factors by which they come are the
     rules of the inner book.
     """
-    rules = shortest(wish)
     rows = numbered_rows(len(rules))
     pairs = derived_each(book.rows, rules, shortest(book))
     return Book(rows, [sum_of(rows, factors) for _, factors in pairs])
 
 
-def outer_rule(wish, factors):
-    """Return the rule that is obtained by factors of the wish's shortest rules."""
+def outer_rule(rules, factors):
+    """Return the rule that is obtained by factors of the rules."""
     total = ()
-    for factor, rule in zip(factors, shortest(wish)):
+    for factor, rule in zip(factors, rules):
         total = sum_plus(total, sum_times(factor, rule))
     return normal_rule(total)

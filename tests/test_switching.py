@@ -7,6 +7,7 @@ from joinpast.books import Book
 from joinpast.courses import value
 from joinpast.errors import Barred, Broken, NotStricter, RowsDiffer
 from joinpast.families import Family
+from joinpast.gaps import universal_gap
 from joinpast.keeping import first_break, keeps
 from joinpast.ownrules import own_rule
 from joinpast.switching import Switch, switch, switched
@@ -65,6 +66,15 @@ class SwitchTest(unittest.TestCase):
     def test_a_wish_that_is_the_book_itself(self):
         for book in (PUMP, STILL, Book.free(["a", "b"]), Book.zero(["a"]), PUMP & Book(["q"], [[("q", 0, 1), ("q", 1, 1)]])):
             self.assertEqual(self.assert_switch(book, book), 0)
+
+    def test_zeros_are_switched_on_within_the_universal_gap(self):
+        gaps = set()
+        for source in sources(80):
+            book = random_book(source, random_rows(source, 4))
+            gap = switch(book, Book.zero(book.rows)).gap
+            self.assertEqual(gap, universal_gap(book))
+            gaps.add(gap)
+        self.assertTrue({None, 0, 1} <= gaps, gaps)
 
     def test_errors_in_their_order(self):
         calls = [switch, lambda book, wish: switched(book, wish, Family.zero(["z"]), gap=0)]

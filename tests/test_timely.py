@@ -62,6 +62,7 @@ class TimelyTest(unittest.TestCase):
         counts = [0, 0]
         for source in sources(150):
             book = random_book(source, random_rows(source, 4))
+            self.assertTrue(any(is_timely(book, chosen) for chosen in free_sets(book)))
             for chosen in free_sets(book):
                 timely = self.assert_timely(book, source.sample(chosen, len(chosen)))
                 counts[timely] += 1
